@@ -1,0 +1,1 @@
+"""Commitments backed by uncertain deliveries (robust inventory planning)."""

@@ -1,0 +1,18 @@
+"""The ranges that the calls keep to, and the codes with which they refuse."""
+
+LAST_DAY = 30
+MOST_STOCK = 999
+MOST_AMOUNT = 99
+MOST_FAILURES = 6
+MOST_DELIVERIES = 6
+MOST_COMMITMENTS = 7
+
+NO_INSTANCE = -11
+NOT_FOUND = -2
+OUT_OF_RANGE = -22
+TOO_MANY = -28
+NOT_COVERED = -30
+STILL_DUE = -30
+NOT_POSSIBLE = -33
+STOCK_TOO_SMALL = -19
+AT_LAST_DAY = -75
