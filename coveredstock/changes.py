@@ -1,5 +1,6 @@
-"""The calls that change the instance, 1 to 8. Each checks all its errors before it changes anything."""
+"""The calls that change the instance, 1 to 8 and 19. Each checks all its errors before it changes anything."""
 
+from coveredstock.cancellation import best_members, cancel_members
 from coveredstock.coverage import covered_for
 from coveredstock.limits import AT_LAST_DAY, LAST_DAY, MOST_AMOUNT, MOST_COMMITMENTS, MOST_DELIVERIES, MOST_FAILURES
 from coveredstock.limits import NOT_COVERED, NOT_FOUND, NOT_POSSIBLE, OUT_OF_RANGE, STILL_DUE, STOCK_TOO_SMALL
@@ -37,7 +38,7 @@ def add_commitment(plan, amount, due):
 def add_covered_commitment(plan, k, amount, due):
     if k > MOST_FAILURES:
         return [OUT_OF_RANGE]
-    supposed = supposed_plan(plan, plan.deliveries, plan.commitments)
+    supposed = supposed_plan(plan)
     result = add_commitment(supposed, amount, due)
     if result[0] < 0:
         return result
@@ -92,3 +93,11 @@ def next_day(plan):
         return [AT_LAST_DAY]
     plan.today += 1
     return [plan.today]
+
+
+def cancel_best(plan, k):
+    if k > MOST_FAILURES:
+        return [OUT_OF_RANGE]
+    members = best_members(plan, k)
+    cancel_members(plan, members)
+    return [len(members)]

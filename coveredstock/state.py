@@ -31,10 +31,10 @@ class Plan:
         self.fulfilled = 0
 
 
-def supposed_plan(plan, deliveries, commitments):
-    """A plan of the same day and stock with other lists, to ask what would be."""
+def supposed_plan(plan):
+    """A plan of the same day and stock with lists of its own, to ask what would be without changing what is."""
     supposed = Plan(plan.stock)
     supposed.today = plan.today
-    supposed.deliveries = list(deliveries)
-    supposed.commitments = list(commitments)
+    supposed.deliveries = list(plan.deliveries)
+    supposed.commitments = list(plan.commitments)
     return supposed

@@ -18,6 +18,18 @@ NEXT_DAY = 8
 LIST_DELIVERIES = 9
 LIST_COMMITMENTS = 10
 IS_COVERED = 11
+SURPLUS = 12
+AVAILABLE = 13
+EARLIEST_DAY = 14
+TOLERANCE = 15
+SAFE_COMMITMENTS = 16
+DEPENDENT_COMMITMENTS = 17
+BEST_CANCELLATION = 18
+CANCEL_BEST = 19
+IS_COVERED_WITH_DELIVERY = 20
+TOLERANCE_WITH_COMMITMENT = 21
+FIRST_SHORTAGE = 22
+SUMMARY = 23
 
 # One call of each kind but create, with numbers that a new instance takes or answers with its own error.
 ALL_BUT_CREATE = [
@@ -32,28 +44,34 @@ ALL_BUT_CREATE = [
     (LIST_DELIVERIES,),
     (LIST_COMMITMENTS,),
     (IS_COVERED, 0),
+    (SURPLUS, 0, 30),
+    (AVAILABLE, 0, 30),
+    (EARLIEST_DAY, 0, 1),
+    (TOLERANCE,),
+    (SAFE_COMMITMENTS, 0),
+    (DEPENDENT_COMMITMENTS, 0),
+    (BEST_CANCELLATION, 0),
+    (CANCEL_BEST, 0),
+    (IS_COVERED_WITH_DELIVERY, 1, 30, 0),
+    (TOLERANCE_WITH_COMMITMENT, 1, 30),
+    (FIRST_SHORTAGE, 0),
+    (SUMMARY,),
 ]
 
-# Shows the lists and the coverage, then whatever else can be seen: stock and today come to
-# light in what the later calls of this run answer.
+# All that an instance holds, and the coverage.
 LOOK = [
     (LIST_DELIVERIES,),
     (LIST_COMMITMENTS,),
+    (SUMMARY,),
 ] + [(IS_COVERED, k) for k in range(7)]
 
+# Behind that a few events, which come out otherwise if something is changed that the lists don't show.
 LOOK_DEEPER = LOOK + [
+    (DELIVERY_ARRIVED, 0),
+    (FULFILL_COMMITMENT, 0),
     (DELIVERY_FAILED, 0),
-    (ADD_DELIVERY, 1, 0, 30),
-    (DELIVERY_ARRIVED, 0),
-    (DELIVERY_ARRIVED, 0),
-    (CANCEL_COMMITMENT, 0),
-    (ADD_COMMITMENT, 1, 30),
-    (FULFILL_COMMITMENT, 0),
-    (FULFILL_COMMITMENT, 0),
     (NEXT_DAY,),
-    (ADD_COMMITMENT, 1, 0),
-    (LIST_DELIVERIES,),
-    (LIST_COMMITMENTS,),
+    (SUMMARY,),
 ]
 
 
@@ -77,6 +95,8 @@ def split(told):
 
 def ask(calls):
     """Has the calls executed on their own, and gives back a list of numbers for each."""
+    if len(calls) > 50 or len(flat(calls)) > 200:
+        raise AssertionError(f"a longer list than is ever handed in: {len(calls)} calls")
     told = answers(flat(calls))
     if type(told) is not list or any(type(number) is not int for number in told):
         raise AssertionError(f"not a list of whole numbers: {told}")
@@ -95,6 +115,11 @@ def behind(before, calls):
     return ask(before + calls)[len(before):]
 
 
+def covered_for_each(before):
+    """Whether the commitments are covered for 0 to 6 failures."""
+    return [result == [1] for result in behind(before, [(IS_COVERED, k) for k in range(7)])]
+
+
 def days(count):
     return [(NEXT_DAY,)] * count
 
@@ -103,7 +128,16 @@ class CallsTest(unittest.TestCase):
     def refused(self, before, call, code):
         """The call answers the code alone, and all that can be seen is as if it had not been made."""
         self.assertEqual(last(before + [call]), [code], call)
+        self.leaves_all(before, call)
+
+    def leaves_all(self, before, call):
+        """All that can be seen behind the call is as if it had not been made."""
         self.assertEqual(behind(before + [call], LOOK_DEEPER), behind(before, LOOK_DEEPER), call)
+
+    def tells(self, before, call, expected):
+        """The call answers what is expected, and changes nothing."""
+        self.assertEqual(last(before + [call]), expected, call)
+        self.leaves_all(before, call)
 
 
 class Numbers:

@@ -1,12 +1,15 @@
 """create, the calls before there is an instance, and what answers does with the list."""
 
+import time
 import unittest
 
 from coveredstock.planner import answers
 from tests.asking import (
-    ADD_COMMITMENT, ADD_COVERED_COMMITMENT, ADD_DELIVERY, ALL_BUT_CREATE, CANCEL_COMMITMENT, CREATE,
-    DELIVERY_ARRIVED, DELIVERY_FAILED, FULFILL_COMMITMENT, GREATEST, IS_COVERED, LIST_COMMITMENTS,
-    LIST_DELIVERIES, LOOK, LOOK_DEEPER, NEXT_DAY, ask, behind, days, flat, last,
+    ADD_COMMITMENT, ADD_COVERED_COMMITMENT, ADD_DELIVERY, ALL_BUT_CREATE, AVAILABLE, BEST_CANCELLATION, CANCEL_BEST,
+    CANCEL_COMMITMENT, CREATE, DELIVERY_ARRIVED, DELIVERY_FAILED, DEPENDENT_COMMITMENTS, EARLIEST_DAY, FIRST_SHORTAGE,
+    FULFILL_COMMITMENT, GREATEST, IS_COVERED, IS_COVERED_WITH_DELIVERY, LIST_COMMITMENTS, LIST_DELIVERIES, LOOK,
+    LOOK_DEEPER, NEXT_DAY, SAFE_COMMITMENTS, SUMMARY, SURPLUS, TOLERANCE, TOLERANCE_WITH_COMMITMENT, ask, behind, days,
+    flat, last,
 )
 
 
@@ -78,8 +81,15 @@ class ExampleTest(unittest.TestCase):
     def test_the_documents_example(self):
         self.assertEqual(
             ask([(CREATE, 10), (ADD_DELIVERY, 20, 2, 5), (ADD_DELIVERY, 15, 1, 8), (ADD_COMMITMENT, 8, 3),
-                 (ADD_COMMITMENT, 18, 6), (IS_COVERED, 1), (DELIVERY_ARRIVED, 0), (NEXT_DAY,)]),
-            [[0], [0], [1], [0], [1], [0], [-33], [1]])
+                 (ADD_COMMITMENT, 18, 6), (IS_COVERED, 1), (TOLERANCE,), (FIRST_SHORTAGE, 1), (BEST_CANCELLATION, 1),
+                 (DEPENDENT_COMMITMENTS, 0), (AVAILABLE, 0, 9), (DELIVERY_ARRIVED, 0), (NEXT_DAY,)]),
+            [[0], [0], [1], [0], [1], [0], [0], [6, 16], [1, 1], [1, 1], [19], [-33], [1]])
+
+    def test_the_documents_example_number_by_number(self):
+        self.assertEqual(
+            answers([0, 10, 1, 20, 2, 5, 1, 15, 1, 8, 2, 8, 3, 2, 18, 6, 11, 1, 15, 22, 1, 18, 1, 17, 0, 13, 0, 9, 5, 0,
+                     8]),
+            [1, 0, 1, 0, 1, 1, 1, 0, 1, 1, 1, 0, 1, 0, 2, 6, 16, 2, 1, 1, 2, 1, 1, 1, 19, 1, -33, 1, 1])
 
 
 class ListTest(unittest.TestCase):
@@ -88,6 +98,11 @@ class ListTest(unittest.TestCase):
         (ADD_COVERED_COMMITMENT, 0, 18, 6), (ADD_COVERED_COMMITMENT, 6, 99, 1), (IS_COVERED, 1), (NEXT_DAY,),
         (DELIVERY_ARRIVED, 1), (DELIVERY_FAILED, 0), (FULFILL_COMMITMENT, 0), (CANCEL_COMMITMENT, 0),
         (CANCEL_COMMITMENT, GREATEST), (LIST_DELIVERIES,), (LIST_COMMITMENTS,), (CREATE, 1000), (CREATE, 999),
+        (ADD_DELIVERY, 9, 0, 4), (ADD_COMMITMENT, 99, 3), (SURPLUS, 1, 4), (AVAILABLE, 2, 30), (EARLIEST_DAY, 0, 905),
+        (TOLERANCE,), (SAFE_COMMITMENTS, 3), (DEPENDENT_COMMITMENTS, 0), (BEST_CANCELLATION, 6),
+        (IS_COVERED_WITH_DELIVERY, 99, 30, 6), (TOLERANCE_WITH_COMMITMENT, 99, 30), (FIRST_SHORTAGE, 0), (SUMMARY,),
+        (CREATE, 5), (ADD_COMMITMENT, 7, 2), (SURPLUS, 0, 2), (SAFE_COMMITMENTS, 0), (BEST_CANCELLATION, 0),
+        (FIRST_SHORTAGE, 0), (CANCEL_BEST, 0), (CANCEL_BEST, 0), (SUMMARY,),
     ]
 
     def test_answers_a_count_and_then_the_numbers_for_each_call(self):
@@ -106,6 +121,10 @@ class ListTest(unittest.TestCase):
             before = list(calls)
             answers(calls)
             self.assertEqual(calls, before)
+
+    def test_the_long_list_asks_for_every_call(self):
+        self.assertEqual({call[0] for call in self.LONG}, set(range(24)))
+        self.assertEqual([(CREATE,)] + [call[:1] for call in ALL_BUT_CREATE], [(number,) for number in range(24)])
 
     def test_the_list_handed_in_is_not_changed_for_a_while_either(self):
         for calls in [flat(self.LONG), flat([(CREATE, 1000)] + ALL_BUT_CREATE), [8]]:
@@ -131,6 +150,15 @@ class ListTest(unittest.TestCase):
         calls = [(ADD_DELIVERY, 1, 1, 1)] * 50
         self.assertEqual(len(flat(calls)), 200)
         self.assertEqual(ask(calls), [[-11]] * 50)
+
+    def test_50_calls_are_answered_within_seconds(self):
+        # The shortage shows on the last day alone and every commitment must go, so there is nothing to be spared.
+        calls = [(CREATE, 0)] + [(ADD_COMMITMENT, 99, 30)] * 7 + [(ADD_DELIVERY, 99, 30, 30)] * 6
+        calls += [(BEST_CANCELLATION, 6)] * 33 + [(TOLERANCE,), (EARLIEST_DAY, 6, GREATEST), (CANCEL_BEST, 6)]
+        begun = time.monotonic()
+        results = ask(calls)
+        self.assertLess(time.monotonic() - begun, 5)
+        self.assertEqual(results[14:], [[7, 0, 1, 2, 3, 4, 5, 6]] * 33 + [[-33], [-33], [7]])
 
     def test_takes_a_list_of_one_call(self):
         self.assertEqual(answers([0, 999]), [1, 0])
